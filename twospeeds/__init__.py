@@ -1,0 +1,1 @@
+"""Twospeeds: two workers at two fixed speeds."""
