@@ -265,7 +265,7 @@ class NumberOf(unittest.TestCase):
         self.assertEqual(number_of(((1, 2, 2), (2, 2))), (0, 1, 2, 1))
 
     def test_largest_repetitions(self):
-        for again in [(20,), (20, 19), (20, 20, 19), (19, 20, 20, 20), (19, 19, 19, 17), (1, 20, 20, 20)]:
+        for again in [(20,), (20, 19), (20, 20, 19), (19, 20, 20, 20), (19, 19, 19, 17), (20, 19, 19, 18), (1, 20, 20, 20)]:
             for first in [(), (0,), (5, 3)]:
                 ratio = number_of((first, again))
                 self.assertTrue(is_number(ratio))
