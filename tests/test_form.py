@@ -113,6 +113,19 @@ class Form(unittest.TestCase):
                 with self.subTest(path=path.name, line=node.lineno):
                     self.assertIsInstance(node, (ast.Expr, ast.ImportFrom, ast.FunctionDef, ast.ClassDef, ast.Assign))
 
+    def test_values_at_module_level(self):
+        names = {}
+        for path, _, tree in self.each():
+            for node in tree.body:
+                if isinstance(node, ast.Assign):
+                    with self.subTest(path=path.name, line=node.lineno):
+                        self.assertIsInstance(node.targets[0], ast.Name)
+                        self.assertEqual(len(node.targets), 1)
+                        # Fails for anything but plain values.
+                        ast.literal_eval(node.value)
+                        self.assertNotIn((path.name, node.targets[0].id), names)
+                        names[path.name, node.targets[0].id] = True
+
     def test_no_barred_words(self):
         for path, text, tree in self.each():
             names = [node.id for node in ast.walk(tree) if isinstance(node, ast.Name)]
