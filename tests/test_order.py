@@ -7,13 +7,11 @@ from itertools import groupby
 from math import isqrt
 
 from twospeeds.errors import TooMany
-from twospeeds.numbers import compare, number, over
+from twospeeds.numbers import over
 from twospeeds.order import act_at, acts, counts, digits, lengths, place_of, standard
 from twospeeds.quotients import expansion, number_of, quotients
+from walks import GOLDEN, ONE, a_first, merged, sample_ratio, words
 
-GOLDEN = (1, 1, 5, 2)
-ONE = (1, 0, 0, 1)
-ZERO = (0, 0, 0, 1)
 HUGE = 10 ** 40
 
 # The last ratio of each pair is 1 divided by the first one.
@@ -40,53 +38,6 @@ ROOTS = [ratio for ratio in RATIOS if ratio[1] != 0]
 # Below 1, so with a first quotient of 0.
 SLOW = [(-1, 1, 5, 2), (0, 1, 2, 2), (2, -1, 2, 1), (-1, 1, 3, 2), (3, -1, 5, 2), (-31, 1, 1000, 1),
         number_of(((0, 7), (1, 2))), number_of(((0, 1, 1), (3,))), number_of(((0, 2500), (1,)))]
-
-
-def a_first(ratio, one, other):
-    """Whether the time one / ratio of an a is at most the time other of a b: integers alone.
-
-    one * s <= other * (p + q * root d), so left <= right * root d.
-    """
-    p, q, d, s = ratio
-    left = one * s - other * p
-    right = other * q
-    if left <= 0 <= right:
-        return True
-    if right <= 0 <= left:
-        return left == 0 and right * right * d == 0
-    if left > 0:
-        return left * left <= right * right * d
-    return left * left >= right * right * d
-
-
-def merged(ratio, count):
-    """The word of the first count acts, one by one, by their times."""
-    word = ""
-    done = {"a": 0, "b": 0}
-    while len(word) < count:
-        worker = "a" if a_first(ratio, done["a"] + 1, done["b"] + 1) else "b"
-        done[worker] += 1
-        word += worker
-    return word
-
-
-def words(row, count):
-    """The words s(0) to s(count) of the quotients in a row, by the words of point 6."""
-    found = ["a", "a" * row[0] + "b"]
-    while len(found) <= count:
-        found.append(found[-1] * row[len(found) - 1] + found[-2])
-    return found[:count + 1]
-
-
-def sample(rng, root):
-    """A ratio, small or large, above 1 or below."""
-    while True:
-        size = rng.choice([5, 30, 10 ** 25])
-        q = rng.randint(-size, size) if root else 0
-        s = rng.randint(1, rng.choice([3, size]))
-        one = number(rng.randint(-size, size), q, rng.randint(2, rng.choice([10, 3000])), s)
-        if compare(one, ZERO) == 1 and (one[1] != 0) == root:
-            return one
 
 
 class Comparison(unittest.TestCase):
@@ -137,7 +88,7 @@ class Acts(unittest.TestCase):
     def test_random_times(self):
         rng = random.Random(61)
         for turn in range(120):
-            ratio = sample(rng, turn % 2 == 0)
+            ratio = sample_ratio(rng, turn % 2 == 0)
             with self.subTest(ratio):
                 self.assertEqual(acts(ratio, 150), merged(ratio, 150))
 
@@ -216,7 +167,7 @@ class Together(unittest.TestCase):
     def test_random_ratios(self):
         rng = random.Random(63)
         for turn in range(300):
-            ratio = sample(rng, turn % 2 == 0)
+            ratio = sample_ratio(rng, turn % 2 == 0)
             count = rng.randint(1, rng.choice([10, 1000, HUGE]))
             with self.subTest(ratio=ratio, count=count):
                 self.check_counts(ratio, count)
@@ -274,7 +225,7 @@ class Standard(unittest.TestCase):
 
     def test_beginning_of_the_order(self):
         rng = random.Random(64)
-        ratios = ROOTS + SLOW + [sample(rng, True) for _ in range(60)]
+        ratios = ROOTS + SLOW + [sample_ratio(rng, True) for _ in range(60)]
         checked = 0
         for ratio in ratios:
             for level, length in enumerate(lengths(ratio, 12)):
