@@ -28,6 +28,11 @@ LIBRARY = {
     "collections": {"defaultdict", "deque"},
 }
 
+VALUE_METHODS = set(
+    "append clear copy count endswith extend find get index insert isalnum isalpha isdigit islower isspace isupper "
+    "items join keys ljust lower lstrip partition pop remove replace reverse rfind rjust rpartition rsplit rstrip "
+    "setdefault split splitlines startswith strip update upper values zfill bit_length add discard".split())
+
 DOUBLE_UNDERSCORE = re.compile(r"\b__[a-z]+__\b")
 BARRED = re.compile(r"\b(register|mro|elements|open|input|law|eval|exec|globals|locals|vars|typing|enum)\b")
 
@@ -125,6 +130,87 @@ class Form(unittest.TestCase):
                         ast.literal_eval(node.value)
                         self.assertNotIn((path.name, node.targets[0].id), names)
                         names[path.name, node.targets[0].id] = True
+
+    def test_names_of_imports_and_classes_have_no_other_meaning(self):
+        for path, _, tree in self.each():
+            taken = {node.name for node in tree.body if isinstance(node, ast.ClassDef)}
+            functions = {node.name for node in tree.body if isinstance(node, ast.FunctionDef)}
+            for node in tree.body:
+                if isinstance(node, ast.ImportFrom):
+                    taken |= {name.asname or name.name for name in node.names}
+            self.assertEqual(taken & functions, set())
+            for node in ast.walk(tree):
+                with self.subTest(path=path.name, line=getattr(node, "lineno", 0)):
+                    if isinstance(node, ast.arg):
+                        self.assertNotIn(node.arg, taken)
+                    if isinstance(node, ast.Name) and not isinstance(node.ctx, ast.Load):
+                        self.assertNotIn(node.id, taken)
+
+    def test_attributes_and_methods(self):
+        """No name is both in one class, each attribute that is read is assigned, and none is a builtin value's."""
+        assigned = set()
+        methods = set()
+        read = {}
+        for path, _, tree in self.each():
+            for node in ast.walk(tree):
+                if isinstance(node, ast.ClassDef):
+                    own = {part.name for part in node.body if isinstance(part, ast.FunctionDef)}
+                    methods |= own
+                    stored = {part.attr for part in ast.walk(node)
+                              if isinstance(part, ast.Attribute) and isinstance(part.ctx, ast.Store)}
+                    self.assertEqual(own & stored, set())
+                if isinstance(node, ast.Attribute):
+                    if isinstance(node.ctx, ast.Store):
+                        assigned.add(node.attr)
+                    else:
+                        read.setdefault(node.attr, path.name)
+        values = set()
+        for value in ("", 0, [], {}, (), set(), b""):
+            values |= {name for name in dir(value) if not name.startswith("_")}
+        self.assertEqual(assigned & values, set())
+        self.assertEqual(methods & values, set())
+        self.assertEqual([(name, path) for name, path in read.items()
+                          if name not in assigned | methods | VALUE_METHODS and not name.startswith("__")], [])
+
+    def test_imports_of_the_package(self):
+        """Each name comes from the very file that defines it, and no two files import from each other."""
+        reached = {}
+        defined = {}
+        for path, _, tree in self.each():
+            defined[f"twospeeds.{path.stem}"] = {node.name for node in tree.body
+                                                 if isinstance(node, (ast.FunctionDef, ast.ClassDef))}
+            reached[f"twospeeds.{path.stem}"] = {}
+            for node in tree.body:
+                if isinstance(node, ast.ImportFrom) and node.module.startswith("twospeeds."):
+                    reached[f"twospeeds.{path.stem}"][node.module] = {name.name for name in node.names}
+        for file, modules in reached.items():
+            for module, names in modules.items():
+                self.assertLessEqual(names, defined[module], file)
+            waiting, met = list(modules), set()
+            while waiting:
+                module = waiting.pop()
+                if module not in met:
+                    met.add(module)
+                    waiting += list(reached[module])
+            self.assertNotIn(file, met)
+
+    def test_no_import_is_unused(self):
+        for path, _, tree in self.each():
+            used = {node.id for node in ast.walk(tree) if isinstance(node, ast.Name)}
+            for node in tree.body:
+                if isinstance(node, ast.ImportFrom):
+                    for name in node.names:
+                        self.assertIn(name.name, used, path.name)
+
+    def test_methods_of_builtin_values(self):
+        own = set()
+        for _, _, tree in self.each():
+            own |= {node.name for node in ast.walk(tree) if isinstance(node, ast.FunctionDef)}
+        for path, _, tree in self.each():
+            for node in ast.walk(tree):
+                if isinstance(node, ast.Call) and isinstance(node.func, ast.Attribute):
+                    with self.subTest(path=path.name, line=node.lineno):
+                        self.assertIn(node.func.attr, own | VALUE_METHODS | {"__init__"})
 
     def test_no_barred_words(self):
         for path, text, tree in self.each():
