@@ -4,7 +4,7 @@ The order of the acts consists of the standard words s(k) and s(k - 1) of a
 level k. It begins with s(k), and s(k - 1) is always followed by s(k).
 """
 
-from twospeeds.tallies import tally
+from twospeeds.tallies import once, tally
 from twospeeds.words import following, joined, led, letter, order_quotients, repeated, standard_words
 
 
@@ -98,7 +98,7 @@ def behind(words, row, upper, lower):
 
     Both begin at the states of upper, only the last one at those of lower.
     """
-    return tally(words, row, {state: 1 for state in upper + lower}, {state: 1 for state in upper})
+    return tally(words, row, once(upper + lower), once(upper), exact=False)
 
 
 def occurring(ratio, maps, start):

@@ -1,9 +1,9 @@
 """The shares of the acts behind which the states stand."""
 
-from twospeeds.numbers import minus, over, plus, times
+from twospeeds.numbers import lowest, minus, over, plus, times
 from twospeeds.patterns import settled
 from twospeeds.quotients import fractions_of, whole
-from twospeeds.tallies import tally
+from twospeeds.tallies import once, tally
 
 
 def shares(ratio, maps, start):
@@ -12,19 +12,18 @@ def shares(ratio, maps, start):
     alone, pairs = shares_of_words(ratio, row)
     # The states of U, and with them those of W, stand equally often in front of
     # their words: s(k) alone from U, or s(k - 1) from U and s(k) from W.
-    begins = {state: 1 for state in upper}
-    of_alone = tally(words, row, begins, {})
-    of_pairs = tally(words, row, {state: 1 for state in lower}, begins)
+    of_alone = tally(words, row, once(upper), {})
+    # For a fraction, no word but the rounds stands in the order.
+    of_pairs = tally(words, row, once(lower), once(upper)) if ratio[1] != 0 else {}
+    p, q, d, s = alone
+    other_p, other_q, _, other_s = pairs
     found = []
     for state in range(len(maps[0])):
-        share = plus(times(alone, count_of(of_alone, state)), times(pairs, count_of(of_pairs, state)))
-        found.append(over(share, whole(len(upper))))
+        left = of_alone.get(state, 0) * other_s
+        right = of_pairs.get(state, 0) * s
+        # This is (alone * left + pairs * right) / len(upper), brought to lowest terms only once.
+        found.append(lowest(p * left + other_p * right, q * left + other_q * right, d, s * other_s * len(upper)))
     return tuple(found)
-
-
-def count_of(counts, state):
-    """Return how often a state is counted, as a number."""
-    return whole(counts[state] if state in counts else 0)
 
 
 def shares_of_words(ratio, row):

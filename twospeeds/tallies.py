@@ -6,18 +6,26 @@ begins there. States without a weight are not in it.
 
 from twospeeds.words import cycles
 
+# So many repetitions are followed one by one.
+FEW = 8
 
-def tally(words, row, upper, lower):
+
+def tally(words, row, upper, lower, exact=True):
     """Return the dict from states to how often they stand behind the acts of some words.
 
     words are the standard words of the quotients in a row; upper has the weights
-    for the last one of them, lower those for the one in front of it.
+    for the last one of them, lower those for the one in front of it. If the
+    answer need not be exact, only its states count.
     """
     # Each word is taken apart into those of which it consists, down to "a" and "b".
     for index in range(len(words) - 2, 0, -1):
         sums, ends = along(words[index].leads, upper, row[index - 1])
         upper = added(sums, lower)
         lower = ends
+        if not exact:
+            # Otherwise the weights would grow with the lengths of the words.
+            upper = once(upper)
+            lower = once(lower)
     return added(carried(words[1].leads, upper), carried(words[0].leads, lower))
 
 
@@ -27,7 +35,7 @@ def along(leads, weights, times):
     sums has the weights with which one of the repeated words begins, ends those
     behind all of them.
     """
-    rings = cycles(leads)
+    rings = cycles(leads) if times > FEW else []
     turning = {state: True for ring in rings for state in ring}
     sums = {}
     ends = weights
@@ -36,7 +44,7 @@ def along(leads, weights, times):
         sums = added(sums, ends)
         ends = carried(leads, ends)
         left -= 1
-    # All weights turn round now, and the number of times may be too large to go step by step.
+    # All weights turn round now, and the number of times may be too large to go one by one.
     if left == 0:
         return sums, ends
     turned = {}
@@ -66,6 +74,11 @@ def round_ring(row, times):
 def weights_of(states, row):
     """Return the weights of states that have those in a row."""
     return {state: weight for state, weight in zip(states, row) if weight > 0}
+
+
+def once(states):
+    """Return weights of 1 for some states."""
+    return {state: 1 for state in states}
 
 
 def added(one, other):
