@@ -325,7 +325,7 @@ class Verdicts(unittest.TestCase):
             size = rng.randint(1, 7)
             maps, start = sample_maps(rng, size), rng.randrange(size)
             targets = [state for state in range(size) if rng.random() < 0.3]
-            for part in self.check(maps, start, targets, turn % 6 if turn < 270 else 8):
+            for part in self.check(maps, start, targets, turn % 9):
                 kind = part[2] if type(part[2]) is str else "number"
                 said[kind] = said.get(kind, 0) + 1
         self.assertEqual(sorted(said), ["never", "number", "open"])
